@@ -1,0 +1,1 @@
+"""Limitrun: programs that keep running after infinitely many steps."""
