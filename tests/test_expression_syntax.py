@@ -136,6 +136,8 @@ class FormTest(ExpressionTest):
             self.assertEqual(parse(text), ("+", X, integer(1)))
         self.assertEqual(parse("min ( x ,y )"), ("min", X, Y))
         self.assertEqual(parse("x>=-y"), (">=", X, ("neg", Y)))
+        self.assertEqual(parse(" " * 9999 + "x"), X)
+        self.check_problem(" " * 10000, 10001)
 
     def test_the_names_do_not_change_and_are_not_kept(self):
         names = ["x", "y"]

@@ -70,6 +70,7 @@ class FormTest(ProgramTest):
     def test_comments_and_empty_lines(self):
         form = ((FORM_X,), X, (("x", ONE),))
         self.check_form(f"# one\n\n   \n{VAR_X}   # two ? ABC \t 007 abcdefghij\n#\nhalt x#halt x\n# x := 1\n  x:=1 ## # := \n\n", form)
+        self.check_form(VAR_X + "#" + "? " * 4900 + "\nhalt x\nx := 1", form)
         self.check_form("\n" * 5 + VAR_X + "#" * 500 + "\n\n\nhalt x\nx := 1#" + "x " * 500, form)
 
     def test_spaces(self):
