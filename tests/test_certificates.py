@@ -374,6 +374,10 @@ class ClaimTest(unittest.TestCase):
         for state in all_states(PROGRAM):
             self.assertEqual(check_claims(PROGRAM, (("step", state),)), [(state, 0, successor(PROGRAM, state), (state,))])
 
+    def test_other_kinds(self):
+        for claim in (("stays", 0), ("", 0), ("limits", (), (0,))):
+            self.refused(PROGRAM, (("step", (1, 1)), claim), 1)
+
     def test_limit(self):
         shown = (0,), 1, (2,), ((0,), (1,), (2,), (3,), (4,))
         for stem, cycle in (((0, 1), (2, 3, 4)), ((0, 1, 2), (3, 4, 2)), ((0, 1, 2, 3, 4), (2, 3, 4)), ((0, 1), (2, 3, 4, 2, 3, 4))):

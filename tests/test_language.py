@@ -156,6 +156,23 @@ class LanguageTest(unittest.TestCase):
                 self.assertNotIn(node.attr, UNUSED_NAMES, place)
                 self.assertRegex(node.attr, r"^([A-Za-z][A-Za-z0-9_]*|__init__)$", place)
 
+    def test_each_name_means_one_thing(self):
+        for path, tree in TREES.items():
+            top = [name.asname or name.name for node in imports_of(tree) for name in node.names]
+            classes = [node.name for node in tree.body if isinstance(node, ast.ClassDef)]
+            functions = [node.name for node in tree.body if isinstance(node, ast.FunctionDef)]
+            values = [target.id for node in tree.body if isinstance(node, ast.Assign) for target in node.targets]
+            self.assertEqual(len(set(top + classes + functions + values)), len(top + classes + functions + values), path)
+            for node in ast.walk(tree):
+                inner = []
+                if isinstance(node, ast.arg):
+                    inner = [node.arg]
+                elif isinstance(node, ast.Name) and isinstance(node.ctx, ast.Store):
+                    inner = [node.id]
+                elif isinstance(node, ast.FunctionDef):
+                    inner = [part.name for part in ast.walk(node) if isinstance(part, ast.FunctionDef) and part != node]
+                self.assertFalse(set(inner) & set(top + classes), f"{path}:{getattr(node, 'lineno', 0)}")
+
     def test_words(self):
         for path, text in TEXTS.items():
             self.assertFalse(set(re.findall(r"[A-Za-z0-9_]+", text)) & UNUSED_WORDS, path)
