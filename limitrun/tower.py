@@ -1,9 +1,10 @@
 """The tower of a program: its runs by jumps over powers of w."""
 
 from limitrun.levels import all_levels, states_in
-from limitrun.machine import all_states, is_halted
+from limitrun.machine import all_states, is_halted, values_in
 from limitrun.orbits import find_orbit, follow
 from limitrun.ordinals import add, degree, power
+from limitrun.syntax import evaluate
 
 
 class Tower:
@@ -14,8 +15,7 @@ class Tower:
         self.states = all_states(program)
         self.numbers = {state: number for number, state in enumerate(self.states)}
         self.levels = all_levels(program, self.states)
-        # A sight, as in the levels: the halted states.
-        self.halted = sum([1 << number for state, number in self.numbers.items() if is_halted(program, state)])
+        self.halted = self.sight_of([state for state in self.states if is_halted(program, state)])
 
     def height(self):
         """Return the level from which on all levels are the same."""
@@ -51,16 +51,33 @@ class Tower:
 
     def halting_time(self, state):
         """Return the least time at which the state is halted, or None."""
+        return self.first_time(state, self.halted)
+
+    def sight_of(self, states):
+        """Return the sight of some states that differ: a set of states as in the levels."""
+        return sum([1 << self.numbers[state] for state in states])
+
+    def sight_where(self, expression):
+        """Return the sight of the states in which an expression is not 0."""
+        values = [evaluate(expression, values_in(self.source, state)) for state in self.states]
+        return self.sight_of([state for state, value in zip(self.states, values) if value != 0])
+
+    def is_in(self, state, sight):
+        """Return whether a state belongs to a sight."""
+        return (sight >> self.numbers[state]) & 1 == 1
+
+    def first_time(self, state, sight):
+        """Return the least time at which the state in the run belongs to a sight, or None."""
         number = self.numbers[state]
-        if not self.levels[-1][1][number] & self.halted:
+        if not self.levels[-1][1][number] & sight:
             return None
         time = ()
         for level in reversed(range(len(self.levels))):
-            # A halted state is visited before w^(level + 1): so one of the
+            # Such a state is visited before w^(level + 1): so one of the
             # jumps at this level starts a stretch that visits one.
             jumps, sights = self.levels[level]
             count = 0
-            while not sights[number] & self.halted:
+            while not sights[number] & sight:
                 number = jumps[number]
                 count += 1
             time = add(time, power(level, count))

@@ -1,6 +1,7 @@
 """Programs for the tests, and what DOC.md says of runs followed word by word."""
 
 from limitrun.machine import limit_state, successor
+from limitrun.ordinals import add
 from limitrun.syntax import parse_program
 
 COUNTER = "var x 0..1 = 0 limit set 0\nvar n 0..3 = 0 limit keep 0\nhalt n = 3\nx := 1\nn := if x = 0 then n + 1 else n"
@@ -49,7 +50,11 @@ def random_text(choose, sizes=((2,), (3,), (4,), (5,), (2, 2), (2, 3), (3, 2), (
     for size in choose.choice(sizes):
         low = choose.randint(-1, 1)
         ranges.append((low, low + size - 1))
-    names = [f"v{place}" for place in range(len(ranges))]
+    return random_text_over(choose, [f"v{place}" for place in range(len(ranges))], ranges)
+
+
+def random_text_over(choose, names, ranges):
+    """The text of a program with variables of these names and ranges."""
     lines = []
     states = [()]
     for name, (low, high) in zip(names, ranges):
@@ -58,7 +63,7 @@ def random_text(choose, sizes=((2,), (3,), (4,), (5,), (2, 2), (2, 3), (3, 2), (
     for name, (low, high) in zip(names, ranges):
         lines.append(f"{name} := {random_table(choose, states, names, low, high)}")
     if choose.random() < 0.6:
-        halted = choose.sample(states, choose.choice([1, 1, 2]))
+        halted = choose.sample(states, min(len(states), choose.choice([1, 1, 2])))
         tests = [" and ".join(f"{name} = {value}" for name, value in zip(names, state)) for state in halted]
         lines.append("halt " + " or ".join(tests))
     return "\n".join(lines)
@@ -216,3 +221,53 @@ def smallest_table(start, value_of, jump_of, levels):
     while len(rows[0][1]) > 1 and all(jumps[-1] == jumps[-2] for value, jumps in rows):
         rows = [(value, jumps[:-1]) for value, jumps in rows]
     return tuple(rows)
+
+
+class Counting:
+    """Point 22 for a walk: the events are the times at which a thing is reached that is one."""
+
+    def __init__(self, walk, is_event):
+        self.walk = walk
+        self.is_event = is_event
+        self.powers = {}
+        self.doubled = {}
+
+    def before_power(self, thing, level):
+        """The count of the events before w^level."""
+        if (thing, level) not in self.powers:
+            if level == 0:
+                found = (1,) if self.is_event(thing) else ()
+            else:
+                order, period = self.walk.orbit(thing, level - 1)
+                found, more = (), ()
+                for other in order[:period]:
+                    found = add(found, self.before_power(other, level - 1))
+                for other in order[period:]:
+                    more = add(more, self.before_power(other, level - 1))
+                # Turn by turn the counts are more*1, more*2 ..: none exceeds the next power of w.
+                found = add(found, (1,) + (0,) * len(more) if more else ())
+            self.powers[thing, level] = found
+        return self.powers[thing, level]
+
+    def doubled_jump(self, thing, level, exponent):
+        """What 2^exponent jumps at a level reach, and the count of the events on the way."""
+        key = (thing, level, exponent)
+        if key not in self.doubled:
+            if exponent == 0:
+                found = self.walk.jump(thing, level), self.before_power(thing, level)
+            else:
+                middle, first = self.doubled_jump(thing, level, exponent - 1)
+                reached, second = self.doubled_jump(middle, level, exponent - 1)
+                found = reached, add(first, second)
+            self.doubled[key] = found
+        return self.doubled[key]
+
+    def before(self, thing, time):
+        """The count of the events before a time."""
+        total = ()
+        for level, jumps in zip(range(len(time) - 1, -1, -1), time):
+            # Powers of 2 that sum to the number of the jumps.
+            for exponent in [place for place in range(jumps.bit_length()) if jumps >> place & 1]:
+                thing, more = self.doubled_jump(thing, level, exponent)
+                total = add(total, more)
+        return total

@@ -16,10 +16,17 @@ FUNCTIONS = {
     "certificates": {"certify_state": 3, "check_claims": 2, "check_certificate": 2, "certify_halting": 2, "check_halting": 2},
     "traces": {"trace_of": 3, "build_trace": 4, "is_trace": 1, "value_at": 2, "drop": 2, "first_difference": 2},
     "operations": {"constant": 1, "map_values": 2, "combine": 3, "concat": 3, "repeat": 2, "sample": 2, "hold": 2},
+    "events": {"next_event": 3, "count_events": 3, "total_events": 2, "nth_event": 3, "select": 3},
+    "compare": {"run_difference": 3, "state_classes": 2, "with_rule": 3, "rule_effects": 2},
 }
 # The arguments of the class, and of its methods without the object itself.
 CLASSES = {
     ("tower", "Tower"): (1, {"height": 0, "jump": 2, "visited": 2, "state_after": 3, "state_at": 2, "halting_time": 1}),
+    ("session", "Session"): (1, {
+        "time": 0, "state": 0, "program": 0, "run_to": 1, "advance": 1, "state_at": 1, "set_value": 2, "replace_program": 1, "history": 0, "next_time": 1,
+        "count_times": 2, "halting_time": 0, "add_breakpoint": 1, "remove_breakpoint": 1, "continue_run": 0, "mark": 0, "back": 1,
+    }),
+    ("console", "Console"): (0, {"execute": 1}),
 }
 
 
